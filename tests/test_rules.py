@@ -1,0 +1,96 @@
+"""The plainest rules of the language in which the package is written."""
+
+import ast
+import builtins
+import unittest
+from pathlib import Path
+
+PACKAGE = Path(__file__).resolve().parent.parent / 'threeroadcars'
+LIBRARY = ('heapq', 'math', 'itertools', 'collections')
+BUILTINS = (
+    'len range enumerate zip min max sum abs sorted reversed int str bool list tuple dict set isinstance '
+    'ord repr any all divmod map ValueError TypeError KeyError IndexError'
+).split()
+METHODS = ('__init__', '__eq__', '__len__', '__enter__', '__exit__')
+
+
+def files():
+    return sorted(path for path in PACKAGE.iterdir() if path.name != '__pycache__')
+
+
+def trees():
+    return {path.stem: ast.parse(path.read_text('ascii')) for path in files()}
+
+
+def imported(tree):
+    return [row for row in tree.body if isinstance(row, ast.ImportFrom)]
+
+
+class Rules(unittest.TestCase):
+
+    def test_the_folder_contains_nothing_but_files_of_the_package(self):
+        for path in files():
+            self.assertRegex(path.name, r'^[a-z_]+\.py$')
+        self.assertIn('__init__.py', [path.name for path in files()])
+
+    def test_sizes_and_signs(self):
+        for path in files():
+            text = path.read_bytes().decode('ascii')
+            self.assertTrue(all(sign == '\n' or ' ' <= sign <= '~' for sign in text), path.name)
+            lines = text.split('\n')
+            self.assertLessEqual(len(lines) - 1, 399, path.name)
+            self.assertLessEqual(max(len(line) for line in lines), 120, path.name)
+
+    def test_functions_are_small(self):
+        for name, tree in trees().items():
+            for node in ast.walk(tree):
+                if isinstance(node, ast.FunctionDef):
+                    self.assertLessEqual(node.end_lineno - node.lineno + 1, 40, (name, node.name))
+                    self.assertFalse(node.name.startswith('__') and node.name not in METHODS, (name, node.name))
+
+    def test_imports_name_the_file_that_defines_the_name(self):
+        every = trees()
+        for name, tree in every.items():
+            for row in imported(tree):
+                if row.module in LIBRARY:
+                    continue
+                package, source = row.module.split('.')
+                self.assertEqual((package, row.level), ('threeroadcars', 0))
+                for each in row.names:
+                    self.assertIsNone(each.asname)
+                    self.assertIn(each.name, names_of(every[source]), (name, row.module))
+
+    def test_no_other_imports(self):
+        for name, tree in trees().items():
+            rows = [node for node in ast.walk(tree) if isinstance(node, (ast.Import, ast.ImportFrom))]
+            self.assertEqual(rows, imported(tree), name)
+
+    def test_files_do_not_import_from_each_other(self):
+        sources = {
+            name: {row.module.split('.')[-1] for row in imported(tree)} & set(trees())
+            for name, tree in trees().items()
+        }
+        while sources:
+            ready = [name for name, needed in sources.items() if not needed & set(sources)]
+            self.assertTrue(ready, sources)
+            for name in ready:
+                del sources[name]
+
+    def test_builtins(self):
+        for name, tree in trees().items():
+            for node in ast.walk(tree):
+                if isinstance(node, ast.Name) and hasattr(builtins, node.id):
+                    self.assertIn(node.id, BUILTINS, name)
+
+    def test_no_points_no_division_no_generator_expressions(self):
+        for name, tree in trees().items():
+            for node in ast.walk(tree):
+                self.assertNotIsInstance(node, (ast.Div, ast.GeneratorExp), name)
+                self.assertFalse(isinstance(node, ast.Constant) and isinstance(node.value, float), name)
+
+
+def names_of(tree):
+    """The names that a file defines at module level."""
+    names = [row.name for row in tree.body if isinstance(row, (ast.FunctionDef, ast.ClassDef))]
+    rows = [row for row in tree.body if isinstance(row, ast.Assign)]
+    return names + [target.id for row in rows for target in row.targets]

@@ -1,0 +1,1 @@
+"""Threeroadcars: what webs of roads that meet by threes bear."""
