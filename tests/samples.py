@@ -1,6 +1,7 @@
 """Webs, loads and values of any kind that several tests use, and plain other ways."""
 
-from itertools import product
+from functools import lru_cache
+from itertools import combinations, product
 from random import Random
 
 from threeroadcars.errors import BadWeb
@@ -117,3 +118,78 @@ def made_loads(web, room, count, chance):
                 load[road] += 1
         loads.append(tuple(load.values()))
     return loads
+
+
+@lru_cache(maxsize=None)
+def all_loads(web_text, room):
+    """All loads of the web with this text, road by road, by what section 2 tells of junctions."""
+    web = Web(web_text)
+    found = [()]
+    for at in range(len(web.roads)):
+        told = web.roads[:at + 1]
+        ready = [words for words in web.junctions if web.roads[at] in words and set(words) <= set(told)]
+        longer = [load + (number,) for load in found for number in range(room + 1)]
+        found = [load for load in longer if all(meet_plainly(room, load, told, words) for words in ready)]
+    return tuple(found)
+
+
+def meet_plainly(room, load, told, words):
+    a, b, c = sorted(load[told.index(road)] for road in words)
+    return (a + b + c) % 2 == 0 and c <= a + b and a + b + c <= 2 * room
+
+
+@lru_cache(maxsize=None)
+def loads_by_ends(web_text, room):
+    """For all ends' loads that there are: all loads that have them, ascending."""
+    web, found = Web(web_text), {}
+    for load in all_loads(web_text, room):
+        found.setdefault(ends_plainly(web, load), []).append(load)
+    return found
+
+
+def ends_plainly(web, load):
+    return tuple(number for road, number in zip(web.roads, load) if road in web.ends)
+
+
+def flipped_plainly(web, road, way):
+    """The lines of the web behind a flip, as section 6 tells."""
+    lines = [list(words) for words in web.junctions]
+    first, second = [number for number, words in enumerate(lines) if road in words]
+    x, y = [word for word in lines[first] if word != road]
+    z, w = [word for word in lines[second] if word != road]
+    lines[first], lines[second] = {1: ([x, z, road], [y, w, road]), 2: ([x, w, road], [z, y, road])}[way]
+    return [' '.join(words) for words in lines]
+
+
+def flippable(web):
+    """The inner roads that do not meet themselves."""
+    return [road for road in web.inner if sum(road in words for words in web.junctions) == 2]
+
+
+def called_plainly(web, called):
+    return web_of(*[' '.join(called.get(road, road) for road in words) for words in web.junctions])
+
+
+def pairs_of_a_kind(count, seed, most=12):
+    """Pairs of webs with the same ends and as many rounds; inner roads of any names."""
+    chance, kinds, pairs = Random(seed), {}, []
+    for web in made_webs(count, seed + 1, most):
+        kinds.setdefault((len(web.ends), web.rounds), []).append(web)
+    for webs in kinds.values():
+        for one in webs:
+            other = chance.choice(webs)
+            inner = [name for name in one.inner + tuple(f'q{a}{b}' for a in 'abcde' for b in 'abcde')]
+            names = chance.sample(inner, len(other.inner)) + chance.sample(one.ends, len(one.ends))
+            pairs.append((one, called_plainly(other, dict(zip(other.inner + other.ends, names)))))
+    return pairs
+
+
+def odd_lots(web):
+    """All lots of an odd number of ends."""
+    return [lot for size in range(1, len(web.ends) + 1, 2) for lot in combinations(web.ends, size)]
+
+
+def bars_plainly(web, room, ends, lot):
+    inside = sum(load for name, load in zip(web.ends, ends) if name in lot)
+    outside = sum(load for name, load in zip(web.ends, ends) if name not in lot)
+    return inside - outside > (len(lot) - 1) * room

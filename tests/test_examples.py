@@ -36,6 +36,83 @@ LOADS = r'''
 [((1, 1, 1),), (1, 2), 3]
 '''
 
+FLIPS = r'''
+>>> from threeroadcars.flips import beside, carried, flipped, led, led_load
+>>> from threeroadcars.webs import Web
+>>> four = Web('web\nmeet a b r\nmeet c d r')
+>>> [flipped(four, 'r', 1).text, flipped(four, 'r', 2).text, flipped(flipped(four, 'r', 2), 'r', 2).text]
+['web\nmeet a c r\nmeet b d r', 'web\nmeet a d r\nmeet c b r', 'web\nmeet a b r\nmeet c d r']
+>>> [four.roads, beside(four, 2, (1, 1, 1, 1, 0), 'r'), beside(four, 1, (1, 1, 1, 1, 0), 'r'), beside(four, 9, (4, 3, 6, 3, 5), 'r')]
+[('a', 'b', 'c', 'd', 'r'), (0, 2), (0, 0), (3, 7)]
+>>> [carried(four, 9, (4, 3, 6, 3, 5), 'r', 1), carried(four, 9, (4, 3, 6, 3, 5), 'r', 2), carried(four, 2, (2, 1, 1, 0, 1), 'r', 2)]
+[(4, 3, 6, 3, 4), (4, 3, 6, 3, 5), (2, 1, 1, 0, 2)]
+>>> ring = Web('web\nmeet a p q\nmeet b p q')
+>>> [flipped(ring, 'p', 1).text, led(ring, (('p', 1), ('p', 1))).text]
+['web\nmeet a b p\nmeet q q p', 'web\nmeet a q p\nmeet b q p']
+>>> [beside(ring, 3, (1, 1, 2, 1), 'p'), carried(ring, 3, (1, 1, 2, 1), 'p', 1), led_load(ring, 3, (1, 1, 2, 1), (('p', 1), ('p', 2)))]
+[(0, 2), (1, 1, 2, 1), (1, 1, 2, 1)]
+'''
+
+LEADING = r'''
+>>> from threeroadcars.leading import led_over, same_kind, shows_same_kind
+>>> from threeroadcars.loads import does_fit
+>>> from threeroadcars.webs import Web
+>>> three = Web('web\nmeet a b c\nmeet a b c')
+>>> apart = Web('web\nmeet p p q\nmeet q r r')
+>>> [three.ends, three.rounds, apart.rounds, same_kind(three, apart)[0]]
+[(), 2, 2, 'led']
+>>> script = (('a', 1),)
+>>> [shows_same_kind(three, apart, ('led', script, (('a', 'q'), ('b', to), ('c', fro)))) for to, fro in (('p', 'r'), ('r', 'p'), ('p', 'p'))]
+[True, True, False]
+>>> there = [led_over(three, apart, 2, load) for load in ((0, 0, 0), (1, 1, 0), (1, 1, 2), (0, 2, 2))]
+>>> [[does_fit(apart, 2, load) for load in there], len(set(there))]
+[[True, True, True, True], 4]
+>>> cross, along = Web('web\nmeet a b r\nmeet r c d'), Web('web\nmeet s c a\nmeet b d s')
+>>> [shows_same_kind(cross, along, ('led', (('r', way),), (('r', 's'),))) for way in (1, 2)]
+[True, False]
+>>> [led_over(cross, along, 2, load) for load in ((1, 1, 1, 1, 0), (1, 1, 1, 1, 2), (2, 1, 1, 2, 1))]
+[(1, 1, 1, 1, 0), (1, 1, 1, 1, 2), (2, 1, 1, 2, 1)]
+>>> [same_kind(cross, Web('web\nmeet a b c')), same_kind(Web('web\nmeet a r r'), Web('web\nmeet a s t\nmeet s t u\nmeet u v v'))]
+[('ends',), ('rounds',)]
+'''
+
+LOTS = r'''
+>>> from threeroadcars.lots import borne, least_room, load_with, shows_some_load, some_load
+>>> from threeroadcars.webs import Web
+>>> fork, ring = Web('web\nmeet a b r\nmeet c d r'), Web('web\nmeet a r s\nmeet b r s')
+>>> [borne(fork, 2, (1, 1, 1, 1), 'r'), borne(fork, 1, (1, 1, 1, 1), 'r'), borne(ring, 1, (1, 1), 'r'), borne(ring, 3, (2, 2), 'a')]
+[(0, 2, 2), (0, 0, 2), (0, 1, 1), (2, 2, 2)]
+>>> [load_with(fork, 2, (1, 1, 1, 1), 'r', number) for number in (0, 1, 2)]
+[(1, 1, 1, 1, 0), None, (1, 1, 1, 1, 2)]
+>>> [some_load(ring, 2, (2, 0)), some_load(ring, 3, (1, 2)), some_load(fork, 3, (3, 1, 0, 0)), some_load(fork, 2, (2, 2, 2, 0))]
+[('load', (2, 0, 1, 1)), ('odd',), ('lot', ('a',)), ('lot', ('a', 'b', 'c'))]
+>>> [shows_some_load(fork, 2, (1, 1, 1, 1), ('load', (1, 1, 1, 1, number))) for number in (0, 1, 2)]
+[True, False, True]
+>>> [least_room(fork, ends) for ends in ((2, 2, 2, 0), (3, 1, 0, 0), (1, 1, 1, 0))]
+[('room', 3), ('never', 'a'), ('odd',)]
+>>> [least_room(ring, (2, 0)), least_room(ring, (5, 5))]
+[('room', 2), ('room', 5)]
+'''
+
+COUNTING = r'''
+>>> from threeroadcars.counting import count, far_count, table
+>>> from threeroadcars.webs import Web
+>>> three, four = Web('web\nmeet a b c'), Web('web\nmeet a b r\nmeet c d r')
+>>> [count(three, 2, (1, 1, 2)), count(three, 2, (1, 1, 1)), count(three, 1, (1, 1, 0)), count(three, 2, (2, 2, 2))]
+[1, 0, 1, 0]
+>>> [count(four, room, (1, 1, 1, 1)) for room in (1, 2, 10 ** 12)]
+[1, 2, 2]
+>>> count(four, 10 ** 12, (10 ** 11, 10 ** 11, 10 ** 11, 10 ** 11))
+100000000001
+>>> lone, twice = Web('web\nmeet r r e'), Web('web\nmeet a b c\nmeet a b c')
+>>> [count(lone, 4, (2,)), count(lone, 4, (3,)), [count(twice, room, ()) for room in (0, 1, 2, 3)]]
+[3, 0, [1, 4, 10, 20]]
+>>> table(2, 1)
+((0, 1, 0), (1, 0, 1), (0, 1, 0))
+>>> [far_count((2,), 1, 4, 97), far_count((), 2, 2, 7), far_count((), 10 ** 18, 1, 7), far_count((1, 1, 1, 1), 0, 1, 5)]
+[3, 3, 2, 1]
+'''
+
 ERRORS = r'''
 >>> from threeroadcars.errors import BadRoom, WebError
 >>> isinstance(BadRoom(-1), WebError), BadRoom(('a', 1)).value
@@ -56,6 +133,18 @@ class Examples(unittest.TestCase):
 
     def test_section_5(self):
         self.check(LOADS, 10)
+
+    def test_section_6(self):
+        self.check(FLIPS, 9)
+
+    def test_section_7(self):
+        self.check(LEADING, 14)
+
+    def test_section_8(self):
+        self.check(LOTS, 9)
+
+    def test_section_9(self):
+        self.check(COUNTING, 10)
 
     def test_section_17(self):
         self.check(ERRORS, 2)

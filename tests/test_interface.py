@@ -3,8 +3,8 @@
 import inspect
 import unittest
 
-from tests.samples import FOUR, LOOP, WEBS, web_of
-from threeroadcars import loads, webs
+from tests.samples import FOUR, LONE, LOOP, TREE, WEBS, web_of
+from threeroadcars import counting, flips, leading, loads, lots, webs
 
 PARAMETERS = {
     webs: {
@@ -19,6 +19,30 @@ PARAMETERS = {
         'needed_room': ['web', 'load'],
         'is_inner': ['web', 'room', 'load'],
         'switched': ['web', 'room', 'load', 'roads'],
+    },
+    flips: {
+        'flipped': ['web', 'road', 'way'],
+        'beside': ['web', 'room', 'load', 'road'],
+        'carried': ['web', 'room', 'load', 'road', 'way'],
+        'led': ['web', 'script'],
+        'led_load': ['web', 'room', 'load', 'script'],
+    },
+    leading: {
+        'same_kind': ['one', 'other'],
+        'shows_same_kind': ['one', 'other', 'value'],
+        'led_over': ['one', 'other', 'room', 'load'],
+    },
+    lots: {
+        'some_load': ['web', 'room', 'ends'],
+        'shows_some_load': ['web', 'room', 'ends', 'value'],
+        'borne': ['web', 'room', 'ends', 'road'],
+        'load_with': ['web', 'room', 'ends', 'road', 'number'],
+        'least_room': ['web', 'ends'],
+    },
+    counting: {
+        'count': ['web', 'room', 'ends'],
+        'table': ['room', 'number'],
+        'far_count': ['ends', 'rounds', 'room', 'modulus'],
     },
 }
 
@@ -58,3 +82,26 @@ class Interface(unittest.TestCase):
         self.assertIs(loads.is_inner(**told), False)
         self.assertEqual(loads.switched(roads=('a', 'b'), **told), (2, 2, 1, 1, 2))
         self.assertEqual(loads.needed_room(load=(1, 1, 1, 1, 2), web=FOUR), 2)
+
+    def test_arguments_of_flips_and_leading_by_name(self):
+        told = {'load': (1, 1, 1, 1, 2), 'room': 2, 'web': FOUR}
+        self.assertEqual(flips.flipped(way=1, road='r', web=FOUR), web_of('a c r', 'b d r'))
+        self.assertEqual(flips.beside(road='r', **told), (0, 2))
+        self.assertEqual(flips.carried(way=2, road='r', **told), (1, 1, 1, 1, 2))
+        self.assertEqual(flips.led(script=(('r', 2),), web=FOUR), web_of('a d r', 'c b r'))
+        self.assertEqual(flips.led_load(script=(('r', 2),), **told), (1, 1, 1, 1, 2))
+        value = leading.same_kind(other=TREE, one=FOUR)
+        self.assertIs(leading.shows_same_kind(value=value, other=TREE, one=FOUR), True)
+        self.assertEqual(leading.led_over(load=(2, 1, 2, 1, 1), room=3, other=TREE, one=FOUR), (2, 1, 2, 1, 1))
+
+    def test_arguments_of_lots_and_counting_by_name(self):
+        told = {'ends': (1, 1, 2, 2), 'room': 2, 'web': FOUR}
+        value = lots.some_load(**told)
+        self.assertEqual(value, ('load', (1, 1, 2, 2, 0)))
+        self.assertIs(lots.shows_some_load(value=value, **told), True)
+        self.assertEqual(lots.borne(road='r', **told), (0, 0, 2))
+        self.assertEqual(lots.load_with(number=0, road='r', **told), (1, 1, 2, 2, 0))
+        self.assertEqual(lots.least_room(ends=(2, 2, 2), web=LONE), ('room', 3))
+        self.assertEqual(counting.count(**told), 1)
+        self.assertEqual(counting.table(number=1, room=1), ((0, 1), (1, 0)))
+        self.assertEqual(counting.far_count(modulus=7, room=1, rounds=2, ends=()), 4)

@@ -1,9 +1,9 @@
 """Section 5: loads."""
 
-import unittest
 from itertools import combinations, product
 from random import Random
 
+from tests.case import Case
 from tests.samples import (
     ANY_VALUES, CHAIN, CLIP, DRUM, FOUR, LONE, LONG, LOOP, NO_ROOMS, PAIR, PRISM, RING, SMALL, THREE,
     TREE, WEBS, even_lots, fits_plainly, loads_of, made_loads, made_webs, nested, web_of,
@@ -15,14 +15,7 @@ from threeroadcars.webs import Web
 MOST = 10 ** 12
 
 
-class Case(unittest.TestCase):
-
-    def refuse(self, error, value, function, *given):
-        with self.subTest(function.__name__, given=given):
-            with self.assertRaises(error) as caught:
-                function(*given)
-            self.assertIs(type(caught.exception), error)
-            self.assertIs(caught.exception.value, value)
+class LoadCase(Case):
 
     def refuse_load(self, web, room, load):
         """All functions refuse what is no load of the web that fits the room."""
@@ -47,7 +40,7 @@ class Case(unittest.TestCase):
         self.assertLessEqual(needed_room(web, load), room)
 
 
-class Rooms(Case):
+class Rooms(LoadCase):
 
     def test_rooms(self):
         for room in (0, 1, 2, 60, 10 ** 6, MOST - 1, MOST):
@@ -75,7 +68,7 @@ class Rooms(Case):
                     self.refuse(BadRoom, room, switched, LONE, room, load, roads)
 
 
-class Fits(Case):
+class Fits(LoadCase):
 
     def test_just_so_and_just_not(self):
         for load, room in (((2, 2, 2), 3), ((1, 1, 2), 2), ((4, 3, 7), 7), ((1, 1, 0), 1), ((5, 4, 3), 6)):
@@ -174,7 +167,7 @@ class Fits(Case):
             self.refuse_load_everywhere(web, list(zeros))
 
 
-class Rim(Case):
+class Rim(LoadCase):
 
     def test_ends_ascending(self):
         web = web_of('z y m', 'm b x')
@@ -201,7 +194,7 @@ class Rim(Case):
                 self.assertIs(type(told), tuple)
 
 
-class Passing(Case):
+class Passing(LoadCase):
 
     def test_words_as_they_stand(self):
         self.assertEqual(passing(LONE, 9, (4, 3, 5)), ((1, 2, 3),))
@@ -233,7 +226,7 @@ class Passing(Case):
         self.assertEqual(passing(LONE, MOST, (MOST, MOST - 1, 1)), ((MOST - 1, 0, 1),))
 
 
-class NeededRoom(Case):
+class NeededRoom(LoadCase):
 
     def test_least(self):
         self.assertEqual(needed_room(LONE, (0, 0, 0)), 0)
@@ -261,7 +254,7 @@ class NeededRoom(Case):
             self.refuse(BadLoad, load, needed_room, LONE, load)
 
 
-class Inner(Case):
+class Inner(LoadCase):
 
     def test_both_borders(self):
         self.assertIs(is_inner(LONE, 4, (2, 2, 2)), True)
@@ -302,7 +295,7 @@ class Inner(Case):
                         self.assertIs(is_inner(web, room, load), fits_plainly(web, room - 4, less))
 
 
-class Switched(Case):
+class Switched(LoadCase):
 
     def test_there_and_back(self):
         for web in SMALL:
@@ -383,7 +376,7 @@ class Switched(Case):
             self.refuse(BadRoads, roads, switched, FOUR, 3, (1, 1, 1, 1, 2), roads)
 
 
-class Conventions(Case):
+class Conventions(LoadCase):
 
     def test_sums_of_loads(self):
         chance = Random(15)

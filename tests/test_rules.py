@@ -11,6 +11,11 @@ BUILTINS = (
     'len range enumerate zip min max sum abs sorted reversed int str bool list tuple dict set isinstance '
     'ord repr any all divmod map ValueError TypeError KeyError IndexError'
 ).split()
+VALUE_METHODS = (
+    'append clear copy count endswith extend find get index insert isalnum isalpha isdigit islower isspace isupper '
+    'items join keys ljust lower lstrip partition pop remove replace reverse rfind rjust rpartition rsplit rstrip '
+    'setdefault split splitlines startswith strip update upper values zfill bit_length'
+).split()
 METHODS = ('__init__', '__eq__', '__len__', '__enter__', '__exit__')
 
 
@@ -77,10 +82,44 @@ class Rules(unittest.TestCase):
                 del sources[name]
 
     def test_builtins(self):
+        # `_` is a builtin name as soon as an example was run.
         for name, tree in trees().items():
             for node in ast.walk(tree):
-                if isinstance(node, ast.Name) and hasattr(builtins, node.id):
+                if isinstance(node, ast.Name) and hasattr(builtins, node.id) and node.id != '_':
                     self.assertIn(node.id, BUILTINS, name)
+
+    def test_names_that_are_given(self):
+        """None is a builtin's; parameters and variables have no name of an import or a class of their file."""
+        for name, tree in trees().items():
+            taken = [each.name for row in imported(tree) for each in row.names]
+            taken += [row.name for row in tree.body if isinstance(row, ast.ClassDef)]
+            for given in set(locals_of(tree)) - {'_'}:
+                self.assertNotIn(given, taken, name)
+                self.assertFalse(hasattr(builtins, given), (name, given))
+            there = names_of(tree) + [each.name for row in imported(tree) for each in row.names]
+            self.assertEqual(len(there), len(set(there)), name)
+            self.assertFalse([each for each in there if hasattr(builtins, each)], name)
+
+    def test_methods(self):
+        own = [row.name for tree in trees().values() for row in ast.walk(tree) if isinstance(row, ast.FunctionDef)]
+        for name, tree in trees().items():
+            for node in ast.walk(tree):
+                if isinstance(node, ast.Call) and isinstance(node.func, ast.Attribute):
+                    self.assertIn(node.func.attr, VALUE_METHODS + own, name)
+
+    def test_ranges_and_their_kin_are_not_returned_or_passed_on(self):
+        kin = ('range', 'zip', 'enumerate', 'reversed', 'map')
+        for name, tree in trees().items():
+            for node in ast.walk(tree):
+                if isinstance(node, (ast.Return, ast.Dict, ast.Tuple, ast.List)):
+                    for each in ast.iter_child_nodes(node):
+                        self.assertFalse(isinstance(each, ast.Call) and getattr(each.func, 'id', '') in kin, name)
+
+    def test_is_stands_beside_none_true_and_false_alone(self):
+        for name, tree in trees().items():
+            for node in ast.walk(tree):
+                if isinstance(node, ast.Compare) and any(isinstance(sign, (ast.Is, ast.IsNot)) for sign in node.ops):
+                    self.assertIn(repr(getattr(node.comparators[0], 'value', 0)), ('None', 'True', 'False'), name)
 
     def test_no_points_no_division_no_generator_expressions(self):
         for name, tree in trees().items():
@@ -94,3 +133,14 @@ def names_of(tree):
     names = [row.name for row in tree.body if isinstance(row, (ast.FunctionDef, ast.ClassDef))]
     rows = [row for row in tree.body if isinstance(row, ast.Assign)]
     return names + [target.id for row in rows for target in row.targets]
+
+
+def locals_of(tree):
+    """The names of all parameters and variables of functions."""
+    names = []
+    for node in ast.walk(tree):
+        if isinstance(node, ast.FunctionDef):
+            names += [each.arg for each in ast.walk(node) if isinstance(each, ast.arg)]
+            names += [each.id for each in ast.walk(node)
+                      if isinstance(each, ast.Name) and isinstance(each.ctx, ast.Store)]
+    return names

@@ -1,6 +1,6 @@
-"""What is told of values of any kind in section 2: integers, names, rooms."""
+"""What is told of values of any kind in section 2: integers, names, rooms, ends' loads."""
 
-from threeroadcars.errors import BadRoom
+from threeroadcars.errors import BadEnds, BadRoom
 
 LETTERS = "abcdefghijklmnopqrstuvwxyz"
 LONGEST_NAME = 6
@@ -10,6 +10,16 @@ GREATEST_ROOM = 10 ** 12
 def is_whole(value):
     """Whether any value is an integer; a bool is none."""
     return isinstance(value, int) and not isinstance(value, bool)
+
+
+def is_up_to(value, greatest):
+    """Whether any value is an integer from 0 to the greatest one."""
+    return is_whole(value) and 0 <= value <= greatest
+
+
+def are_up_to(value, greatest):
+    """Whether any value is a tuple of integers from 0 to the greatest one."""
+    return isinstance(value, tuple) and all([is_up_to(number, greatest) for number in value])
 
 
 def is_name(value):
@@ -30,7 +40,13 @@ def are_unlike_names(value):
     )
 
 
-def check_room(room):
-    """Refuse what is no room."""
-    if not is_whole(room) or not 0 <= room <= GREATEST_ROOM:
+def check_room(room, greatest=GREATEST_ROOM):
+    """Refuse what is no room, or one above the greatest."""
+    if not is_up_to(room, greatest):
         raise BadRoom(room)
+
+
+def check_ends(web, room, ends):
+    """Refuse what are no ends' loads of the web for the room."""
+    if not are_up_to(ends, room) or len(ends) != len(web.ends):
+        raise BadEnds(ends)

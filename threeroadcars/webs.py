@@ -72,16 +72,21 @@ def check_hanging_together(junctions):
             raise BadWeb(number + 2)
 
 
-def reached(junctions, start, closed=""):
+def places_of(junctions, road):
+    """The numbers of the junctions that have any value as a word, each once."""
+    return [number for number, words in enumerate(junctions) if road in words]
+
+
+def reached(junctions, start, closed=()):
     """The numbers of the junctions to which one comes from one of them.
 
-    No road is called "": unless another one is told to be closed, all are open.
+    No way goes along a road that is in closed.
     """
     found = {start: True}
     waiting = [start]
     while waiting:
         here = waiting.pop()
-        open_roads = [road for road in junctions[here] if road != closed]
+        open_roads = [road for road in junctions[here] if road not in closed]
         for number, words in enumerate(junctions):
             if number not in found and any([road in open_roads for road in words]):
                 found[number] = True
@@ -91,9 +96,9 @@ def reached(junctions, start, closed=""):
 
 def is_bridge(web, road):
     """Whether an inner road is a bridge."""
-    sides = [number for number, words in enumerate(web.junctions) if road in words]
+    sides = places_of(web.junctions, road)
     # A road that meets itself has one junction, which reaches itself.
-    return sides[-1] not in reached(web.junctions, sides[0], road)
+    return sides[-1] not in reached(web.junctions, sides[0], (road,))
 
 
 def bridges(web):
@@ -107,19 +112,23 @@ def text_of(junctions):
     return "\n".join([FIRST_LINE, *lines])
 
 
+def called_so(junctions, called):
+    """Junctions with the roads that a dict tells called otherwise."""
+    return [[called.get(road, road) for road in words] for words in junctions]
+
+
 def renamed(web, names):
     """The web with its roads, ascending, called otherwise."""
     if not are_unlike_names(names) or len(names) != len(web.roads):
         raise BadNames(names)
-    called = dict(zip(web.roads, names))
-    return Web(text_of([[called[road] for road in words] for words in web.junctions]))
+    return Web(text_of(called_so(web.junctions, dict(zip(web.roads, names)))))
 
 
-def sorted_meets(web):
-    """The junctions of a web, but for the sequence of lines and words."""
-    return sorted([sorted(words) for words in web.junctions])
+def sorted_meets(junctions):
+    """Junctions, but for the sequence of lines and words."""
+    return sorted([sorted(words) for words in junctions])
 
 
 def same_meets(one, other):
     """Whether two webs are the same but for the sequence of lines and words."""
-    return sorted_meets(one) == sorted_meets(other)
+    return sorted_meets(one.junctions) == sorted_meets(other.junctions)

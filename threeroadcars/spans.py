@@ -1,0 +1,82 @@
+"""What a road can bear, told by the ends' loads alone, without going through loads (section 8).
+
+A web, or a part of one that cutting some roads leaves, counts here as its ends' loads and
+its rounds: which loads there are for its ends hangs on nothing else.
+"""
+
+from threeroadcars.webs import places_of, reached
+
+
+def surplus(room, loads, remainder):
+    """The most that a lot bears, less all others, less room for each end of the lot.
+
+    The lot has an even number of ends for the remainder 0, an odd one for 1.
+    """
+    falling = sorted(loads, reverse=True)
+    sizes = range(remainder, len(loads) + 1, 2)
+    return max([2 * sum(falling[:size]) - sum(loads) - size * room for size in sizes])
+
+
+def is_borne(room, loads, rounds):
+    """Whether there is a load with these ends' loads."""
+    if sum(loads) % 2:
+        return False
+    # A lot of m ends bars by more than (m - 1) times room.
+    return rounds > 0 or surplus(room, loads, 1) <= -room
+
+
+def span_of_end(room, loads, rounds):
+    """The least and the greatest that one more end can bear beside some; all by twos between."""
+    total = sum(loads)
+    least, greatest = total % 2, room - (room - total) % 2
+    if rounds > 0:
+        return (least, greatest)
+    # Odd lots without the new end must not bar, nor those with it and an even lot.
+    return (max(least, surplus(room, loads, 1) + room), min(greatest, -surplus(room, loads, 0)))
+
+
+def span_on_round(room, loads, rounds):
+    """The least and the greatest that a road on a round can bear, rounds being left without it."""
+    if rounds > 0:
+        return (0, room)
+    # Cut, the road is two ends that bear alike. Odd lots with one of them never bar:
+    # those with none tell the least number, those with both the greatest one.
+    least = max(0, (surplus(room, loads, 1) + room) // 2)
+    return (least, room - least)
+
+
+def rounds_of(junctions, ends):
+    """How many rounds a web has with so many junctions and ends."""
+    return (junctions - ends) // 2 + 1
+
+
+def loads_at(junctions, numbers, told):
+    """What the told roads bear at the junctions with some numbers, as often as they stand."""
+    return [told[road] for number in numbers for road in junctions[number] if road in told]
+
+
+def span_of(junctions, room, told, road):
+    """The least and the greatest that a road can bear beside what is told of some others.
+
+    Told are all ends, and perhaps inner roads, so that there is a load.
+    """
+    places = places_of(junctions, road)
+    closed = [*told, road]
+    here = reached(junctions, places[0], closed)
+    loads = loads_at(junctions, here, told)
+    if places[-1] in here:
+        return span_on_round(room, loads, rounds_of(len(here), len(loads) + 2))
+    there = reached(junctions, places[-1], closed)
+    others = loads_at(junctions, there, told)
+    one = span_of_end(room, loads, rounds_of(len(here), len(loads) + 1))
+    other = span_of_end(room, others, rounds_of(len(there), len(others) + 1))
+    return (max(one[0], other[0]), min(one[1], other[1]))
+
+
+def filled(web, room, told):
+    """A load in which some roads bear what is told, all ends among them; there is one."""
+    for road in web.inner:
+        if road not in told:
+            # What is left can still be borne, whatever of its span the road bears.
+            told = {**told, road: span_of(web.junctions, room, told, road)[0]}
+    return tuple([told[road] for road in web.roads])
