@@ -1,7 +1,10 @@
-"""The examples of the document, as they stand."""
+"""The examples of the document, as they stand, and those of README.md."""
 
 import doctest
 import unittest
+from pathlib import Path
+
+README = Path(__file__).resolve().parent.parent / 'README.md'
 
 WEBS = r'''
 >>> from threeroadcars.webs import bridges, renamed, same_meets, Web
@@ -127,6 +130,10 @@ class Examples(unittest.TestCase):
         told = []
         ran = doctest.DocTestRunner().run(test, out=told.append)
         self.assertEqual((ran.failed, ran.attempted), (0, count), ''.join(told))
+
+    def test_readme(self):
+        text = README.read_text('ascii').replace('```', '')
+        self.check(text, text.count('>>> '))
 
     def test_section_4(self):
         self.check(WEBS, 7)

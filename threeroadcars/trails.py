@@ -46,7 +46,7 @@ def shortest_way(junctions, starts, goals, closed):
             return ways[here]
         for road in [word for word in junctions[here] if word != closed]:
             for there in [number for number in places_of(junctions, road) if number not in ways]:
-                ways[there] = (*ways[here], road)
+                ways[there] = ways[here] + (road,)
                 waiting.append(there)
     return None
 
@@ -77,7 +77,7 @@ def bring_together(trail, held, leaf):
     """Flip until two roads meet between which there is one way alone."""
     junctions = trail.now()
     way = shortest_way(junctions, places_of(junctions, held), places_of(junctions, leaf), held)
-    for road, following in zip(way, [*way[1:], leaf]):
+    for road, following in zip(way, way[1:] + (leaf,)):
         trail.let_meet(road, held, following)
 
 
@@ -90,7 +90,8 @@ def third_beside(junctions, one, other):
 def line_up(trail, leaves):
     """Flip until the leaves of a tree stand in a row; the roads between them."""
     held, row = leaves[0], []
-    for leaf in leaves[1:-1]:
+    # If all others stand in the row, the last two meet at its end.
+    for leaf in leaves[1:-2]:
         bring_together(trail, held, leaf)
         held = third_beside(trail.now(), held, leaf)
         row.append(held)
@@ -104,8 +105,7 @@ def straighten(web, trail):
     stems = [words_beside(trail.now(), road)[0] for road in alone]
     row = line_up(trail, [*web.ends, *stems])
     inner = []
-    # The last of a row is a leaf; two roads that meet themselves can have one stem,
-    # and the stem of one can be the only end.
+    # Two roads that meet themselves can have one stem, and a stem can be the only end.
     for road in [*row, *stems, *alone]:
         if road in web.inner and road not in inner:
             inner.append(road)
