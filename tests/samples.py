@@ -120,6 +120,29 @@ def made_loads(web, room, count, chance):
     return loads
 
 
+def lot_between(web, names):
+    """The even lot of a web without rounds that has just these ends, an even number of them."""
+    known, left = {end: end in names for end in web.ends}, list(web.junctions)
+    while left:
+        words = [words for words in left if sum(word in known for word in words) > 1][0]
+        left.remove(words)
+        for word in words:
+            known.setdefault(word, sum(known.get(other, False) for other in words) % 2 == 1)
+    return tuple(sorted(road for road in known if known[road]))
+
+
+def tree_loads(web, room, count, chance):
+    """Loads of a web without rounds that fit the room: sums of as many even lots."""
+    loads = []
+    for _ in range(count):
+        load = dict.fromkeys(web.roads, 0)
+        for _ in range(room):
+            for road in lot_between(web, chance.sample(web.ends, 2 * chance.randint(0, len(web.ends) // 2))):
+                load[road] += 1
+        loads.append(tuple(load.values()))
+    return loads
+
+
 @lru_cache(maxsize=None)
 def all_loads(web_text, room):
     """All loads of the web with this text, road by road, by what section 2 tells of junctions."""
@@ -168,6 +191,34 @@ def flippable(web):
 
 def called_plainly(web, called):
     return web_of(*[' '.join(called.get(road, road) for road in words) for words in web.junctions])
+
+
+def made_trees(count, seed, most=12):
+    """Webs without rounds of all sizes: grown at roads by chance, with names, lines and words shuffled."""
+    chance, trees = Random(seed), []
+    while len(trees) < count:
+        lines, many = [[0, 1, 2]], 3
+        for _ in range(chance.randint(0, most - 1)):
+            line, word = chance.randrange(len(lines)), chance.randrange(3)
+            lines.append([lines[line][word], many, many + 1])
+            if sum(lines[line][word] in words for words in lines) == 3:
+                lines[line][word] = many
+            many += 2
+        names = chance.sample([a + b for a in 'abcdefg' for b in ('', 'a', 'b', 'zz', 'zzzzz')], many)
+        for words in lines:
+            chance.shuffle(words)
+        chance.shuffle(lines)
+        trees.append(web_of(*[' '.join(names[word] for word in words) for words in lines]))
+    return trees
+
+
+def even_ends(web, room, chance, least=0):
+    """Ends' loads by chance with an even sum, if the room lets there be any."""
+    ends = [chance.randint(least, max(room - least, least)) for _ in web.ends]
+    if ends and sum(ends) % 2:
+        at = chance.randrange(len(ends))
+        ends[at] += 1 if ends[at] < room else -1
+    return tuple(ends)
 
 
 def pairs_of_a_kind(count, seed, most=12):

@@ -116,6 +116,71 @@ COUNTING = r'''
 [3, 3, 2, 1]
 '''
 
+NUMBERING = r'''
+>>> from threeroadcars.numbering import load_at, next_load, place_of
+>>> from threeroadcars.webs import Web
+>>> four = Web('web\nmeet a b r\nmeet r c d')
+>>> [load_at(four, 2, (1, 1, 1, 1), number) for number in (0, 1)]
+[(1, 1, 1, 1, 0), (1, 1, 1, 1, 2)]
+>>> [place_of(four, 2, (1, 1, 1, 1, 2)), next_load(four, 2, (1, 1, 1, 1, 0)), next_load(four, 1, (1, 1, 1, 1, 0))]
+[1, (1, 1, 1, 1, 2), None]
+>>> two = Web('web\nmeet p q s\nmeet q p s')
+>>> [load_at(two, 1, (), number) for number in range(4)]
+[(0, 0, 0), (0, 1, 1), (1, 0, 1), (1, 1, 0)]
+>>> [place_of(two, 50, (50, 0, 50)), next_load(two, 50, (0, 50, 50)), load_at(two, 60, (), 20)]
+[23375, (1, 0, 1), (0, 20, 20)]
+'''
+
+GROWING = r'''
+>>> from threeroadcars.growing import ever_inner, grown, growth, inner_count, shows_ever_inner
+>>> from threeroadcars.webs import Web
+>>> four = Web('web\nmeet a b r\nmeet c d r')
+>>> [growth(four, 2, (1, 1, 1, 1)), growth(four, 4, (1, 1, 1, 3)), growth(four, 2, (2, 0, 0, 0))]
+[((1, 1), (1, 1)), ((1, 1),), ()]
+>>> [grown(four, 2, (1, 1, 1, 1), n) for n in (1, 10 ** 9, 0, -1, -3)]
+[2, 1000000001, 1, 0, -2]
+>>> [inner_count(four, 2, (1, 1, 1, 1)), inner_count(four, 6, (3, 3, 3, 3))]
+[0, 2]
+>>> pair = Web('web\nmeet x y z\nmeet x y z')
+>>> [growth(pair, 1, ()), grown(pair, 2, (), 5), grown(pair, 1, (), -4), inner_count(pair, 4, ())]
+[((1, 1), (11, 6), (1, 1), (1, 6)), 286, -1, 1]
+>>> [shows_ever_inner(four, 2, (1, 1, 1, 1), ('inner', 2, load)) for load in ((2, 2, 2, 2, 2), (2, 2, 2, 2, 0))]
+[True, False]
+>>> [ever_inner(four, 4, (1, 1, 1, 3)), ever_inner(four, 4, (2, 0, 2, 2)), ever_inner(pair, 0, ())]
+[('lot', ('d',)), ('end', 'b'), ('room',)]
+'''
+
+LAYERS = r'''
+>>> from threeroadcars.layers import layers, shows_layers, tracks
+>>> from threeroadcars.webs import Web
+>>> tree = Web('web\nmeet a b r\nmeet r c d')
+>>> sorted(layers(tree, 2, (2, 0, 1, 1, 2)))
+[('a', 'c', 'r'), ('a', 'd', 'r')]
+>>> [shows_layers(tree, 2, (1, 1, 1, 1, 2), value) for value in ((('a', 'c', 'r'), ('b', 'd', 'r')), (('a', 'd', 'r'), ('b', 'c', 'r')), (('a', 'c', 'r'),))]
+[True, True, False]
+>>> [shows_layers(tree, 2, (1, 1, 1, 1, 0), value) for value in ((('a', 'b', 'c', 'd'), ()), (('a', 'b'), ('c', 'd')), (('a', 'c'), ('b', 'd')))]
+[True, True, False]
+>>> [tracks(tree, ('a', 'b', 'c', 'd')), tracks(tree, ('b', 'c', 'r')), tracks(tree, ())]
+[(('a', 'b'), ('c', 'd')), (('b', 'r', 'c'),), ()]
+'''
+
+FLAT = r'''
+>>> from threeroadcars.flat import flat_carried, flat_flipped, load_of, rim_walk, trips
+>>> from threeroadcars.webs import Web
+>>> four = Web('web\nmeet a b r\nmeet c d r')
+>>> [rim_walk(four), rim_walk(Web('web\nmeet d s a\nmeet b s c'))]
+[('a', 'b', 'c', 'd'), ('a', 'd', 'c', 'b')]
+>>> trips(four, (2, 1, 2, 1, 1))
+((('a', 'b'), 1), (('a', 'c'), 1), (('c', 'd'), 1))
+>>> load_of(four, ((('a', 'd'), 2), (('b', 'c'), 10 ** 12)))
+(2, 1000000000000, 1000000000000, 2, 1000000000002)
+>>> other = flat_flipped(four, 'r')
+>>> [other.text, flat_carried(four, (2, 1, 2, 1, 1), 'r')]
+['web\nmeet d a r\nmeet b c r', (2, 1, 2, 1, 3)]
+>>> [trips(other, (2, 1, 2, 1, 3)) == trips(four, (2, 1, 2, 1, 1)), rim_walk(other)]
+[True, ('a', 'b', 'c', 'd')]
+'''
+
 ERRORS = r'''
 >>> from threeroadcars.errors import BadRoom, WebError
 >>> isinstance(BadRoom(-1), WebError), BadRoom(('a', 1)).value
@@ -152,6 +217,18 @@ class Examples(unittest.TestCase):
 
     def test_section_9(self):
         self.check(COUNTING, 10)
+
+    def test_section_10(self):
+        self.check(NUMBERING, 8)
+
+    def test_section_11(self):
+        self.check(GROWING, 10)
+
+    def test_section_12(self):
+        self.check(LAYERS, 7)
+
+    def test_section_13(self):
+        self.check(FLAT, 9)
 
     def test_section_17(self):
         self.check(ERRORS, 2)

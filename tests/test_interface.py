@@ -4,7 +4,7 @@ import inspect
 import unittest
 
 from tests.samples import FOUR, LONE, LOOP, TREE, WEBS, web_of
-from threeroadcars import counting, flips, leading, loads, lots, webs
+from threeroadcars import counting, flat, flips, growing, layers, leading, loads, lots, numbering, webs
 
 PARAMETERS = {
     webs: {
@@ -43,6 +43,30 @@ PARAMETERS = {
         'count': ['web', 'room', 'ends'],
         'table': ['room', 'number'],
         'far_count': ['ends', 'rounds', 'room', 'modulus'],
+    },
+    numbering: {
+        'load_at': ['web', 'room', 'ends', 'number'],
+        'place_of': ['web', 'room', 'load'],
+        'next_load': ['web', 'room', 'load'],
+    },
+    growing: {
+        'growth': ['web', 'room', 'ends'],
+        'grown': ['web', 'room', 'ends', 'n'],
+        'inner_count': ['web', 'room', 'ends'],
+        'ever_inner': ['web', 'room', 'ends'],
+        'shows_ever_inner': ['web', 'room', 'ends', 'value'],
+    },
+    layers: {
+        'layers': ['web', 'room', 'load'],
+        'shows_layers': ['web', 'room', 'load', 'value'],
+        'tracks': ['web', 'layer'],
+    },
+    flat: {
+        'rim_walk': ['web'],
+        'trips': ['web', 'load'],
+        'load_of': ['web', 'rows'],
+        'flat_flipped': ['web', 'road'],
+        'flat_carried': ['web', 'load', 'road'],
     },
 }
 
@@ -105,3 +129,26 @@ class Interface(unittest.TestCase):
         self.assertEqual(counting.count(**told), 1)
         self.assertEqual(counting.table(number=1, room=1), ((0, 1), (1, 0)))
         self.assertEqual(counting.far_count(modulus=7, room=1, rounds=2, ends=()), 4)
+
+    def test_arguments_of_numbering_and_growing_by_name(self):
+        told = {'ends': (1, 1, 1, 1), 'room': 2, 'web': FOUR}
+        load = numbering.load_at(number=0, **told)
+        self.assertEqual([load, numbering.place_of(load=load, room=2, web=FOUR)], [(1, 1, 1, 1, 0), 0])
+        self.assertEqual(numbering.next_load(load=load, room=2, web=FOUR), (1, 1, 1, 1, 2))
+        self.assertEqual(growing.growth(**told), ((1, 1), (1, 1)))
+        self.assertEqual(growing.grown(n=-3, **told), -2)
+        self.assertEqual(growing.inner_count(**told), 0)
+        value = growing.ever_inner(**told)
+        self.assertEqual(value[0], 'inner')
+        self.assertIs(growing.shows_ever_inner(value=value, **told), True)
+
+    def test_arguments_of_layers_and_flat_by_name(self):
+        load = (1, 1, 1, 1, 2)
+        value = layers.layers(load=load, room=2, web=FOUR)
+        self.assertIs(layers.shows_layers(value=value, load=load, room=2, web=FOUR), True)
+        self.assertEqual(layers.tracks(layer=('a', 'b'), web=FOUR), (('a', 'b'),))
+        self.assertEqual(flat.rim_walk(web=FOUR), ('a', 'b', 'c', 'd'))
+        rows = flat.trips(load=load, web=FOUR)
+        self.assertEqual(flat.load_of(rows=rows, web=FOUR), load)
+        self.assertEqual(flat.flat_flipped(road='r', web=FOUR), web_of('d a r', 'b c r'))
+        self.assertEqual(flat.flat_carried(road='r', load=load, web=FOUR), (1, 1, 1, 1, 0))

@@ -1,6 +1,6 @@
-"""What is told of values of any kind in section 2: integers, names, rooms, ends' loads."""
+"""What section 2 tells of all arguments: integers, names, rooms, ends' loads, webs without rounds."""
 
-from threeroadcars.errors import BadEnds, BadRoom
+from threeroadcars.errors import BadEnds, BadRoom, HasRounds
 
 LETTERS = "abcdefghijklmnopqrstuvwxyz"
 LONGEST_NAME = 6
@@ -50,3 +50,9 @@ def check_ends(web, room, ends):
     """Refuse what are no ends' loads of the web for the room."""
     if not are_up_to(ends, room) or len(ends) != len(web.ends):
         raise BadEnds(ends)
+
+
+def check_no_rounds(web):
+    """Refuse a web with rounds."""
+    if web.rounds > 0:
+        raise HasRounds(web.rounds)

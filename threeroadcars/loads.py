@@ -48,11 +48,16 @@ def does_fit(web, room, load):
     return fits(web, room, load)
 
 
+def ends_of(web, load):
+    """What the ends bear in a load, ends ascending."""
+    return tuple([number for road, number in zip(web.roads, load) if road in web.ends])
+
+
 def rim(web, room, load):
     """What the ends bear, ends ascending."""
     check_room(room)
     check_load(web, room, load)
-    return tuple([number for road, number in zip(web.roads, load) if road in web.ends])
+    return ends_of(web, load)
 
 
 def passing(web, room, load):
@@ -72,14 +77,19 @@ def needed_room(web, load):
     return least_fitting(web, load)
 
 
-def is_inner(web, room, load):
-    """Whether a load is at no junction just at the border of what fits."""
-    check_room(room)
-    check_load(web, room, load)
+def is_within(web, room, load):
+    """Whether a load that fits is at no junction just at the border of what fits."""
     return all([
         2 * max(numbers) < sum(numbers) < 2 * room
         for numbers in numbers_at(web, load)
     ])
+
+
+def is_inner(web, room, load):
+    """Whether a load is at no junction just at the border of what fits."""
+    check_room(room)
+    check_load(web, room, load)
+    return is_within(web, room, load)
 
 
 def has_none_or_two(web, roads):

@@ -2,7 +2,7 @@
 
 from threeroadcars.checks import GREATEST_ROOM, check_ends, check_room, is_up_to
 from threeroadcars.errors import BadNumber, NoRoad
-from threeroadcars.loads import fits
+from threeroadcars.loads import ends_of, fits
 from threeroadcars.spans import filled, is_borne, span_of
 from threeroadcars.webs import is_bridge
 
@@ -13,18 +13,22 @@ ROOM = "room"
 NEVER = "never"
 
 
-def bars(web, room, ends, names):
-    """Whether a lot of ends bars a room, of a web without rounds."""
+def excess(web, room, ends, names):
+    """What a lot of ends bears less what all others bear, and less (how many it is less 1) rooms."""
     inside = sum([load for name, load in zip(web.ends, ends) if name in names])
-    return len(names) % 2 == 1 and 2 * inside - sum(ends) > (len(names) - 1) * room
+    return 2 * inside - sum(ends) - (len(names) - 1) * room
 
 
-def barring_lot(web, room, ends):
-    """A lot that bars the room; there is one."""
+def bars(web, room, ends, names):
+    """Whether a lot of ends, of a web without rounds, bars a room."""
+    return len(names) % 2 == 1 and excess(web, room, ends, names) > 0
+
+
+def heaviest_lots(web, ends):
+    """For each odd number of ends the lot of them that bears most."""
     falling = sorted(zip(ends, web.ends), reverse=True)
-    # Of all lots of one size the one of the greatest loads bars first.
-    lots = [sorted([name for _, name in falling[:size]]) for size in range(1, len(ends) + 1, 2)]
-    return tuple([lot for lot in lots if bars(web, room, ends, lot)][0])
+    sizes = range(1, len(ends) + 1, 2)
+    return [tuple(sorted([name for _, name in falling[:size]])) for size in sizes]
 
 
 def some_load(web, room, ends):
@@ -35,25 +39,27 @@ def some_load(web, room, ends):
         return ODD
     if is_borne(room, ends, web.rounds):
         return (LOAD, filled(web, room, dict(zip(web.ends, ends))))
-    return (LOT, barring_lot(web, room, ends))
+    return (LOT, [lot for lot in heaviest_lots(web, ends) if bars(web, room, ends, lot)][0])
 
 
 def shows_load(web, room, ends, load):
     """Whether any value is a load with these ends' loads."""
-    return fits(web, room, load) and ends == tuple([
-        number for road, number in zip(web.roads, load) if road in web.ends
-    ])
+    return fits(web, room, load) and ends_of(web, load) == ends
 
 
-def shows_lot(web, room, ends, names):
-    """Whether any value is a lot that bars."""
+def is_lot(web, names):
+    """Whether any value is a lot of ends of a web without rounds."""
     return (
         web.rounds == 0
         and isinstance(names, tuple)
         and all([name in web.ends for name in names])
         and list(names) == sorted(set(names))
-        and bars(web, room, ends, names)
     )
+
+
+def shows_lot(web, room, ends, names):
+    """Whether any value is a lot that bars."""
+    return is_lot(web, names) and bars(web, room, ends, names)
 
 
 def shows_some_load(web, room, ends, value):

@@ -55,22 +55,37 @@ def loads_at(junctions, numbers, told):
     return [told[road] for number in numbers for road in junctions[number] if road in told]
 
 
-def span_of(junctions, room, told, road):
-    """The least and the greatest that a road can bear beside what is told of some others.
+def parts_beside(junctions, told, road):
+    """What cutting some told roads and one more leaves where that one stands: one part or two.
 
-    Told are all ends, and perhaps inner roads, so that there is a load.
+    Told are all ends, and perhaps inner roads. Each part is told by what its ends bear, but
+    for what the one road made, and by its rounds; one part alone has both ends of this road.
     """
     places = places_of(junctions, road)
     closed = [*told, road]
     here = reached(junctions, places[0], closed)
     loads = loads_at(junctions, here, told)
     if places[-1] in here:
-        return span_on_round(room, loads, rounds_of(len(here), len(loads) + 2))
+        return [(loads, rounds_of(len(here), len(loads) + 2))]
     there = reached(junctions, places[-1], closed)
     others = loads_at(junctions, there, told)
-    one = span_of_end(room, loads, rounds_of(len(here), len(loads) + 1))
-    other = span_of_end(room, others, rounds_of(len(there), len(others) + 1))
-    return (max(one[0], other[0]), min(one[1], other[1]))
+    return [
+        (loads, rounds_of(len(here), len(loads) + 1)),
+        (others, rounds_of(len(there), len(others) + 1)),
+    ]
+
+
+def span_of(junctions, room, told, road):
+    """The least and the greatest that a road can bear beside what is told of some others.
+
+    Told are all ends, and perhaps inner roads, so that there is a load.
+    """
+    parts = parts_beside(junctions, told, road)
+    if len(parts) == 1:
+        loads, rounds = parts[0]
+        return span_on_round(room, loads, rounds)
+    spans = [span_of_end(room, loads, rounds) for loads, rounds in parts]
+    return (max([least for least, _ in spans]), min([greatest for _, greatest in spans]))
 
 
 def filled(web, room, told):
