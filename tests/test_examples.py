@@ -181,6 +181,65 @@ FLAT = r'''
 [True, ('a', 'b', 'c', 'd')]
 '''
 
+CUTTING = r'''
+>>> from threeroadcars.counting import count
+>>> from threeroadcars.cutting import cut, hung, joined, taken
+>>> from threeroadcars.webs import Web
+>>> four = Web('web\nmeet a b r\nmeet c d r')
+>>> [web.text for web in cut(four, 'r', 's', 'r')]
+['web\nmeet a b s', 'web\nmeet c d r']
+>>> ring = Web('web\nmeet a p q\nmeet b p q')
+>>> [web.text for web in cut(ring, 'p', 'm', 'n')]
+['web\nmeet a m q\nmeet b n q']
+>>> [joined(four, 'a', 'b', 'a').text, joined(ring, 'b', 'a', 'c').text]
+['web\nmeet a a r\nmeet c d r', 'web\nmeet c p q\nmeet c p q']
+>>> [hung(four, 'r', 'h', 'e').text, hung(four, 'a', 'h', 'e').text]
+['web\nmeet a b r\nmeet c d h\nmeet r h e', 'web\nmeet a b r\nmeet c d r\nmeet a h e']
+>>> [taken(four, 'd').text, taken(ring, 'a').text, taken(hung(four, 'r', 'h', 'e'), 'e').text]
+['web\nmeet a b c', 'web\nmeet b p p', 'web\nmeet a b h\nmeet c d h']
+>>> [count(four, 2, (1, 1, 1, 1)), [count(web, 2, (1, 1, 0)) * count(cut(four, 'r', 'r', 's')[1], 2, (1, 1, 0)) for web in cut(four, 'r', 'r', 's')[:1]]]
+[2, [1]]
+>>> [count(joined(four, 'c', 'd', 'c'), 2, (1, 1)), [count(four, 2, (1, 1, both, both)) for both in (0, 1, 2)]]
+[4, [1, 2, 1]]
+>>> [count(hung(ring, 'q', 'h', 'e'), 3, (1, 1, 0)), count(ring, 3, (1, 1))]
+[6, 6]
+'''
+
+BENCH = r'''
+>>> from threeroadcars.bench import Bench
+>>> bench = Bench('web\nmeet a b r\nmeet c d r', 2)
+>>> [bench.load, bench.ends, bench.count()]
+[(0, 0, 0, 0, 0), (0, 0, 0, 0), 1]
+>>> bench.put((1, 1, 1, 1, 2))
+>>> bench.flip('r', 1)
+>>> [bench.web.text.split('\n'), bench.load, bench.count(), bench.borne('r')]
+[['web', 'meet a c r', 'meet b d r'], (1, 1, 1, 1, 2), 2, (0, 2, 2)]
+>>> bench.hang('r', 's', 'e')
+>>> [bench.web.text.split('\n'), bench.web.roads, bench.load]
+[['web', 'meet a c r', 'meet b d s', 'meet r s e'], ('a', 'b', 'c', 'd', 'e', 'r', 's'), (1, 1, 1, 1, 0, 2, 2)]
+>>> bench.take('e')
+>>> bench.switch(('a', 'c'))
+>>> [bench.web.junctions, bench.load, bench.ends, bench.done]
+[(('a', 'c', 'r'), ('b', 'd', 'r')), (1, 1, 1, 1, 2), (1, 1, 1, 1), 5]
+>>> bench.join('a', 'b', 'q')
+>>> [bench.web.text.split('\n'), bench.load, bench.web.rounds]
+[['web', 'meet q c r', 'meet q d r'], (1, 1, 1, 2), 1]
+'''
+
+DESK = r'''
+>>> from threeroadcars.desk import Desk
+>>> from threeroadcars.journals import journal, read_journal
+>>> desk = Desk('bench 2\nweb\nmeet a b r\nmeet c d r')
+>>> [desk.say(line) for line in ('put 1 1 1 1 2', 'load', 'count', 'borne r', 'least', 'flip r 1', 'web')]
+['ok', 'a=1 b=1 c=1 d=1 r=2', '2', '0 2 2', 'room 1', 'ok', 'meet a c r; meet b d r']
+>>> [desk.say(line) for line in ('switch a c', 'join a b q', 'web', 'load', 'undo', 'room')]
+['ok', 'ok', 'meet q c r; meet q d r', 'c=1 d=1 q=1 r=2', 'ok', '2']
+>>> journal(desk.bench).split('\n')
+['bench 2', 'web', 'meet a b r', 'meet c d r', 'put 1 1 1 1 2', 'flip r 1', 'switch a c']
+>>> read_journal(journal(desk.bench)) == desk.bench
+True
+'''
+
 ERRORS = r'''
 >>> from threeroadcars.errors import BadRoom, WebError
 >>> isinstance(BadRoom(-1), WebError), BadRoom(('a', 1)).value
@@ -229,6 +288,15 @@ class Examples(unittest.TestCase):
 
     def test_section_13(self):
         self.check(FLAT, 9)
+
+    def test_section_14(self):
+        self.check(CUTTING, 13)
+
+    def test_section_15(self):
+        self.check(BENCH, 13)
+
+    def test_section_16(self):
+        self.check(DESK, 7)
 
     def test_section_17(self):
         self.check(ERRORS, 2)

@@ -4,7 +4,9 @@ import inspect
 import unittest
 
 from tests.samples import FOUR, LONE, LOOP, TREE, WEBS, web_of
-from threeroadcars import counting, flat, flips, growing, layers, leading, loads, lots, numbering, webs
+from threeroadcars import (
+    bench, counting, cutting, desk, flat, flips, growing, journals, layers, leading, loads, lots, numbering, webs,
+)
 
 PARAMETERS = {
     webs: {
@@ -68,6 +70,41 @@ PARAMETERS = {
         'flat_flipped': ['web', 'road'],
         'flat_carried': ['web', 'load', 'road'],
     },
+    cutting: {
+        'cut': ['web', 'road', 'first', 'second'],
+        'joined': ['web', 'one', 'other', 'road'],
+        'hung': ['web', 'road', 'half', 'end'],
+        'taken': ['web', 'end'],
+    },
+    journals: {
+        'journal': ['bench'],
+        'read_journal': ['text'],
+    },
+}
+METHODS = {
+    bench.Bench: {
+        '__init__': ['text', 'room'],
+        'flip': ['road', 'way'],
+        'put': ['load'],
+        'widen': ['room'],
+        'switch': ['roads'],
+        'hang': ['road', 'half', 'end'],
+        'take': ['end'],
+        'join': ['one', 'other', 'road'],
+        'part': ['road', 'first', 'second'],
+        'count': [],
+        'borne': ['road'],
+        'undo': [],
+        'redo': [],
+        'trial': [],
+        'keep': [],
+        'tried': ['look', 'keep'],
+        'copy': [],
+    },
+    desk.Desk: {
+        '__init__': ['text'],
+        'say': ['line'],
+    },
 }
 
 
@@ -88,6 +125,25 @@ class Interface(unittest.TestCase):
         self.assertEqual(list(inspect.signature(webs.Web).parameters), ['text'])
         self.assertIn('__len__', vars(webs.Web))
         self.assertIn('__eq__', vars(webs.Web))
+
+    def test_methods_are_defined_in_the_body_of_their_class_with_their_parameters(self):
+        for kind, methods in METHODS.items():
+            self.assertEqual(kind.__module__, {'Bench': 'threeroadcars.bench', 'Desk': 'threeroadcars.desk'}[kind.__name__])
+            for name, names in methods.items():
+                with self.subTest(name):
+                    self.assertIn(name, vars(kind))
+                    told = inspect.signature(vars(kind)[name]).parameters
+                    self.assertEqual(list(told), ['self', *names])
+                    for each in told.values():
+                        self.assertEqual(each.kind.name, 'KEYWORD_ONLY' if each.name == 'keep' else 'POSITIONAL_OR_KEYWORD')
+        self.assertIs(inspect.signature(bench.Bench.tried).parameters['keep'].default, False)
+
+    def test_attributes_are_set_when_a_bench_or_a_desk_is_created(self):
+        for web in WEBS:
+            made = bench.Bench(web.text, 2)
+            for name in ('web', 'room', 'load', 'ends', 'done'):
+                self.assertTrue(hasattr(made, name), name)
+            self.assertIsInstance(desk.Desk(f'bench 2\n{web.text}').bench, bench.Bench)
 
     def test_attributes_are_set_when_a_web_is_created(self):
         for web in WEBS:

@@ -2,7 +2,7 @@
 
 from threeroadcars.checks import check_no_rounds, is_whole
 from threeroadcars.errors import BadLoad, BadRoad, BadTrips
-from threeroadcars.loads import fits_some_room
+from threeroadcars.loads import fits_some_room, load_told
 from threeroadcars.trees import begun_with, ends_beyond, junctions_from
 from threeroadcars.webs import Web, places_of, text_of
 
@@ -142,5 +142,4 @@ def flat_carried(web, load, road):
     check_inner(web, road)
     borne = dict(zip(web.roads, load))
     x, y, z, w = [borne[word] for word in words_round(web, road)]
-    behind = max(x + z, y + w) - borne[road]
-    return tuple([behind if name == road else borne[name] for name in web.roads])
+    return load_told(web, {**borne, road: max(x + z, y + w) - borne[road]})

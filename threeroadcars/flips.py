@@ -2,7 +2,7 @@
 
 from threeroadcars.checks import check_room, is_whole
 from threeroadcars.errors import BadRoad, BadScript, BadWay
-from threeroadcars.loads import check_load
+from threeroadcars.loads import check_load, load_told
 from threeroadcars.webs import Web, places_of, text_of
 
 FIRST_WAY = 1
@@ -80,11 +80,6 @@ def numbers_behind(ahead, behind, room, numbers, road):
     least_ahead = range_beside(ahead, room, numbers, road)[0]
     least_behind = range_beside(behind, room, numbers, road)[0]
     return {**numbers, road: numbers[road] - least_ahead + least_behind}
-
-
-def load_told(web, numbers):
-    """The tuple of what a dict tells for each road."""
-    return tuple([numbers[road] for road in web.roads])
 
 
 def carried(web, room, load, road, way):

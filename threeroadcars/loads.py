@@ -48,6 +48,11 @@ def does_fit(web, room, load):
     return fits(web, room, load)
 
 
+def load_told(web, numbers):
+    """The tuple of what a dict tells for each road."""
+    return tuple([numbers[road] for road in web.roads])
+
+
 def ends_of(web, load):
     """What the ends bear in a load, ends ascending."""
     return tuple([number for road, number in zip(web.roads, load) if road in web.ends])

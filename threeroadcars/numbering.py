@@ -2,7 +2,7 @@
 
 from threeroadcars.checks import check_ends, check_room, is_up_to
 from threeroadcars.errors import BadNumber
-from threeroadcars.loads import check_load, ends_of
+from threeroadcars.loads import check_load, ends_of, load_told
 from threeroadcars.spans import parts_beside
 from threeroadcars.tables import count_of_kind, row_of_kind, times_each
 
@@ -44,7 +44,7 @@ def numbered(web, room, ends, number):
         sizes = shares(web, room, told, many, road)
         told[road], number = place_among(sizes, number)
         many = sizes[told[road]]
-    return tuple([told[road] for road in web.roads])
+    return load_told(web, told)
 
 
 def number_of(web, room, load):

@@ -4,6 +4,7 @@ A web, or a part of one that cutting some roads leaves, counts here as its ends'
 its rounds: which loads there are for its ends hangs on nothing else.
 """
 
+from threeroadcars.loads import load_told
 from threeroadcars.webs import places_of, reached
 
 
@@ -94,4 +95,4 @@ def filled(web, room, told):
         if road not in told:
             # What is left can still be borne, whatever of its span the road bears.
             told = {**told, road: span_of(web.junctions, room, told, road)[0]}
-    return tuple([told[road] for road in web.roads])
+    return load_told(web, told)
