@@ -404,6 +404,14 @@ class EverInner(Case):
                       ('inner', 1, (0, 0, 0))):
             self.assertIs(shows_ever_inner(PAIR, 0, (), value), False)
 
+    def test_lots_of_even_numbers_are_never_shown(self):
+        for ends, lot in (((4, 4, 1, 1), ('a', 'b')), ((3, 1, 1, 3), ('a', 'd')), ((0, 4, 4, 0), ('b', 'c'))):
+            self.assertTrue(is_full_plainly(FOUR, 4, ends, lot))
+            self.assertIs(shows_ever_inner(FOUR, 4, ends, ('lot', lot)), False)
+        self.assertIs(shows_ever_inner(FOUR, 0, (0, 0, 0, 0), ('lot', ())), False)
+        self.assertIs(shows_ever_inner(FOUR, 0, (0, 0, 0, 0), ('lot', ('a', 'b', 'c', 'd'))), False)
+        self.assertIs(shows_ever_inner(FOUR, 0, (0, 0, 0, 0), ('lot', ('a', 'b', 'c'))), True)
+
     def test_lots_of_webs_with_rounds_are_never_shown(self):
         self.assertIs(shows_ever_inner(RING, 4, (3, 1), ('lot', ('p',))), False)
         self.assertIs(shows_ever_inner(LOOP, 6, (2,), ('lot', ('s',))), False)

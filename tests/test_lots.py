@@ -241,6 +241,12 @@ class ShowsSomeLoad(Checks):
         self.assertIs(shows_some_load(FOUR, 3, (3, 1, 0, 0), ('lot', ('a', 'a', 'a'))), False)
         self.assertIs(shows_some_load(FOUR, 3, (3, 1, 0, 0), ('lot', ('a',))), True)
 
+    def test_lots_of_even_numbers_are_never_shown(self):
+        for ends, lot in (((4, 4, 1, 1), ('a', 'b')), ((0, 4, 4, 0), ('b', 'c'))):
+            self.assertTrue(bars_plainly(FOUR, 3, ends, lot))
+            self.assertIs(shows_some_load(FOUR, 4, ends, ('lot', lot)), False)
+            self.assertIs(shows_some_load(FOUR, 4, ends, ('lot', ())), False)
+
     def test_lots_of_webs_with_rounds_are_never_shown(self):
         self.assertIs(shows_some_load(RING, 2, (2, 0), ('lot', ('p',))), False)
         self.assertIs(shows_some_load(LOOP, 2, (2,), ('lot', ('s',))), False)

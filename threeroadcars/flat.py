@@ -82,9 +82,9 @@ def is_trip(web, row):
     return all([end in web.ends for end in pair]) and pair[0] < pair[1] and cars >= 1
 
 
-def do_cross(one, other):
-    """Whether two trips cross, told by the places of their ends on the rim, ascending."""
-    return one[0] < other[0] < one[1] < other[1] or other[0] < one[0] < other[1] < one[1]
+def does_cross(one, later):
+    """Whether a trip crosses one that begins later round the rim, told by their places there."""
+    return one[0] < later[0] < one[1] < later[1]
 
 
 def is_row_of_trips(web, rows):
@@ -96,7 +96,7 @@ def is_row_of_trips(web, rows):
         return False
     rim = round_the_rim(web)
     chords = [sorted([rim.index(end) for end in pair]) for pair in pairs]
-    return not any([do_cross(one, other) for one in chords for other in chords])
+    return not any([does_cross(one, later) for one in chords for later in chords])
 
 
 def load_of(web, rows):

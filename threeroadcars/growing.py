@@ -42,7 +42,7 @@ def first_worths(web, room, ends):
     """The numbers of loads at n from 0 on, as many as tell the polynomial; none if all are 0."""
     if not is_borne(room, ends, web.rounds):
         return []
-    # Each inner road bears at most linearly many numbers: they are a bound for the degree.
+    # The degree is at most the number of inner roads, as each bears at most linearly many numbers.
     return [count_of_kind(n * room, times(n, ends), web.rounds) for n in range(len(web.inner) + 1)]
 
 

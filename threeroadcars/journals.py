@@ -22,9 +22,9 @@ def read_room(line):
 
 
 def place_of_deeds(lines):
-    """The number of lines ahead of the first deed, the first line never being one."""
+    """The number of lines ahead of the first deed; all of them without one."""
     for place, line in enumerate(lines):
-        if place > 0 and is_deed_word(first_word(line)):
+        if is_deed_word(first_word(line)):
             return place
     return len(lines)
 
