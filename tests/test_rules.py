@@ -121,11 +121,79 @@ class Rules(unittest.TestCase):
                 if isinstance(node, ast.Compare) and any(isinstance(sign, (ast.Is, ast.IsNot)) for sign in node.ops):
                     self.assertIn(repr(getattr(node.comparators[0], 'value', 0)), ('None', 'True', 'False'), name)
 
+    def test_tests_of_blocks_ends_ask_by_is_none_alone(self):
+        exits = [node for tree in trees().values() for node in ast.walk(tree)
+                 if isinstance(node, ast.FunctionDef) and node.name == '__exit__']
+        asked = [node.test for each in exits for node in ast.walk(each) if isinstance(node, ast.If)]
+        self.assertTrue(asked)
+        for test in asked:
+            self.assertTrue(asks_by_is_none(test), ast.unparse(test))
+
+    def test_which_tests_ask_by_is_none_alone(self):
+        for text, told in (('self.kept is None', True), ('kind is not None or self.kept is None', True),
+                           ('not (kind is None and a.b is None)', True), ('self.kept', False), ('not self.kept', False),
+                           ('kind is not None or self.kept', False), ('self.kept is True', False),
+                           ('None is kind', False), ('kind == None', False), ('told[0] is None', False)):
+            self.assertIs(asks_by_is_none(ast.parse(text, mode='eval').body), told, text)
+
+    def test_calls_with_stars(self):
+        for name, tree in trees().items():
+            for node in ast.walk(tree):
+                if isinstance(node, ast.Call):
+                    self.assertTrue(may_have_its_stars(node), (name, ast.unparse(node)))
+
+    def test_which_calls_may_have_stars(self):
+        for text, told in (('bench.flip(*given)', True), ('f(k, *self.rows, (1, a))', True), ('zip(*rows)', True),
+                           ('max(*rows)', True), ('bench.join(one, other, road)', True), ('bench.join(*given)', False),
+                           ('words.count(*given)', False), ('sorted(*rows)', False), ('f(*rows[1:])', False),
+                           ('f(*rows, g(1))', False), ('f(**told)', True), ('f(k=1, **told)', False)):
+            self.assertIs(may_have_its_stars(ast.parse(text, mode='eval').body), told, text)
+
     def test_no_points_no_division_no_generator_expressions(self):
         for name, tree in trees().items():
             for node in ast.walk(tree):
                 self.assertNotIsInstance(node, (ast.Div, ast.GeneratorExp), name)
                 self.assertFalse(isinstance(node, ast.Constant) and isinstance(node.value, float), name)
+
+
+def asks_by_is_none(test):
+    """Whether a test asks names and attributes whether they are None, and nothing else."""
+    if isinstance(test, ast.BoolOp):
+        return all(asks_by_is_none(part) for part in test.values)
+    if isinstance(test, ast.UnaryOp):
+        return isinstance(test.op, ast.Not) and asks_by_is_none(test.operand)
+    return (
+        isinstance(test, ast.Compare)
+        and isinstance(test.left, (ast.Name, ast.Attribute))
+        and len(test.ops) == 1
+        and isinstance(test.ops[0], (ast.Is, ast.IsNot))
+        and getattr(test.comparators[0], 'value', 0) is None
+    )
+
+
+def is_plain_argument(node):
+    """Whether something may stand behind a star, or beside one, in a call."""
+    if isinstance(node, (ast.List, ast.Tuple)):
+        return all(is_plain_argument(part) for part in node.elts)
+    if isinstance(node, ast.Attribute):
+        return isinstance(node.value, ast.Name)
+    return isinstance(node, (ast.Name, ast.Constant))
+
+
+def may_have_its_stars(call):
+    """Whether a call has no star, or is one in which its stars may stand."""
+    stars = [each.value for each in call.args if isinstance(each, ast.Starred)]
+    twice = [each.value for each in call.keywords if each.arg is None]
+    if not stars and not twice:
+        return True
+    if twice and len(call.keywords) > 1:
+        return False
+    if isinstance(call.func, ast.Attribute) and call.func.attr in VALUE_METHODS:
+        return False
+    if isinstance(call.func, ast.Name) and call.func.id in set(BUILTINS) - {'max', 'min', 'zip'}:
+        return False
+    beside = [each for each in call.args if not isinstance(each, ast.Starred)] + [each.value for each in call.keywords]
+    return all(is_plain_argument(each) for each in [*stars, *twice, *beside])
 
 
 def names_of(tree):

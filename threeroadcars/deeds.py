@@ -63,6 +63,8 @@ def do_deed(bench, word, given):
         case "take":
             bench.take(*given)
         case "join":
-            bench.join(*given)
+            # Strings have a method of this name, too, and none of theirs takes a star.
+            one, other, road = given
+            bench.join(one, other, road)
         case "part":
             bench.part(*given)

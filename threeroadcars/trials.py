@@ -6,7 +6,8 @@ class Trial:
 
     def __init__(self, bench):
         self.bench = bench
-        self.kept = False
+        # None until keep is called: a test of __exit__ asks by `is None` alone.
+        self.kept = None
 
     def __enter__(self):
         bench = self.bench
@@ -25,7 +26,7 @@ class Trial:
     def __exit__(self, kind, value, trace):
         bench = self.bench
         bench.innermost = self.outer
-        if kind is not None or not self.kept:
+        if kind is not None or self.kept is None:
             bench.web = self.web
             bench.room = self.room
             bench.load = self.load
